@@ -76,7 +76,7 @@ func plainTupleRead(b []byte) (impl.Tuple, bool) {
 		if len(b) == 0 || len(b) < 1+int(b[0]) {
 			return nil, false
 		}
-		p := b[1 : 1+b[0]]
+		p := b[1 : 1+int(b[0])]
 		b = b[1+int(b[0]):]
 		return p, true
 	}
