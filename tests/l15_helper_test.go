@@ -175,12 +175,11 @@ func wordsOf(r impl.Reply) string {
 	return text
 }
 
-// wantPlay runs a script, each line of which has behind => what is replied to its op, and behind each ; a reply to who
-// was waked by it, with its seat and kind.
-func wantPlay(t *testing.T, name string, script string) impl.Play {
+// wantTold asks for the replies to a script, each line of which has behind => what is replied to its op, and behind each ;
+// a reply to who was waked by it, with its seat and kind.
+func wantTold(t *testing.T, name string, script string, ops []impl.Op, replies []impl.Reply) {
 	t.Helper()
 	var want []string
-	ops := opsOf(t, script)
 	for i, line := range linesOf(script) {
 		_, told, _ := strings.Cut(line, "=>")
 		own := fmt.Sprintf("%d %s", ops[i].Seat, nameOf(opNames(), ops[i].Kind))
@@ -191,14 +190,21 @@ func wantPlay(t *testing.T, name string, script string) impl.Play {
 			want = append(want, strings.TrimSpace(reply))
 		}
 	}
-	p := impl.LiveRun(ops)
 	var got []string
-	for _, r := range p.Replies {
+	for _, r := range replies {
 		got = append(got, wordsOf(r))
 	}
 	if !slices.Equal(got, want) {
 		t.Fatalf("%s: the replies are\n%s\nwant\n%s", name, strings.Join(got, "\n"), strings.Join(want, "\n"))
 	}
+}
+
+// wantPlay runs a script in memory, and asks for its replies.
+func wantPlay(t *testing.T, name string, script string) impl.Play {
+	t.Helper()
+	ops := opsOf(t, script)
+	p := impl.LiveRun(ops)
+	wantTold(t, name, script, ops, p.Replies)
 	return p
 }
 

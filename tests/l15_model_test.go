@@ -289,6 +289,17 @@ func (p *plainLive) write(o impl.Op) {
 			return
 		}
 	}
+	var needed []impl.Record
+	for _, r := range rows {
+		needed = append(needed, impl.Record{Kind: impl.RecMark, Page: r.Page})
+	}
+	if o.Kind == opPut {
+		needed = append(needed, impl.Record{Kind: impl.RecPut, Page: page, Data: plainTuple(tuple)})
+	}
+	if !p.hasRoom(needed...) {
+		p.giveUp(o, rpFull)
+		return
+	}
 	for _, r := range rows {
 		lsn := p.log(impl.Record{Kind: impl.RecMark, Xid: self, Page: r.Page, Slot: r.Slot})
 		p.db.Heap, _ = plainHeapMark(p.db.Heap, r.Page, r.Slot, self, lsn)
@@ -302,6 +313,20 @@ func (p *plainLive) write(o impl.Op) {
 	}
 	seat.Writes = append(seat.Writes, o.Key)
 	p.say(o, rpDone, n)
+}
+
+// hasRoom tells whether these records have room, with the images that would come ahead of them.
+func (p *plainLive) hasRoom(l ...impl.Record) bool {
+	need := 0
+	imaged := slices.Clone(p.db.Imaged)
+	for _, r := range l {
+		if r.Kind != impl.RecCommit && !slices.Contains(imaged, r.Page) {
+			imaged = append(imaged, r.Page)
+			need += len(plainRecord(imageRecord(1, 0)))
+		}
+		need += len(plainRecord(r))
+	}
+	return p.db.Room == -1 || need <= p.db.Room
 }
 
 // log tells the record's number; an image of its page comes ahead of it, where there is none yet.
@@ -319,19 +344,29 @@ func (p *plainLive) log(r impl.Record) int {
 	r.Lsn = p.db.Lsn
 	p.db.Lsn++
 	p.db.Log = append(p.db.Log, r)
+	if p.db.Room != -1 {
+		p.db.Room -= len(plainRecord(r))
+	}
 	return r.Lsn
 }
 
 func (p *plainLive) commit(o impl.Op) {
 	seat := p.db.Seats[o.Seat]
 	self := seat.Snap.Self
+	tracks, code := p.db.Tracks, edgeWell
 	if seat.Level == 1 {
-		tracks, code := plainEndOf(p.db.Tracks, self, p.db.Clock+1, true, mostReads)
-		if code == edgeDanger {
-			p.giveUp(o, rpSerial)
-			return
-		}
-		p.db.Tracks = tracks
+		tracks, code = plainEndOf(tracks, self, p.db.Clock+1, true, mostReads)
+	}
+	switch {
+	case code == edgeDanger:
+		p.giveUp(o, rpSerial)
+		return
+	case len(seat.Writes) > 0 && !p.hasRoom(commitRecord(1, self)):
+		p.giveUp(o, rpFull)
+		return
+	}
+	p.db.Tracks = tracks
+	if seat.Level == 1 {
 		p.db.Deeds = append(p.db.Deeds, impl.Deed{Xid: self, Begun: seat.Begun, Ended: p.db.Clock + 1, Reads: seat.Reads, Writes: seat.Writes})
 	}
 	if len(seat.Writes) > 0 {
@@ -380,6 +415,14 @@ func (p *plainLive) vacuum(o impl.Op) {
 		}
 	}
 	dead := plainHeapDead(p.db.Heap, p.db.List, plainHorizon(snaps, p.db.Next))
+	var needed []impl.Record
+	for _, r := range dead {
+		needed = append(needed, impl.Record{Kind: impl.RecClear, Page: r.Page})
+	}
+	if !p.hasRoom(needed...) {
+		p.say(o, rpFull, 0)
+		return
+	}
 	for _, r := range dead {
 		lsn := p.log(impl.Record{Kind: impl.RecClear, Page: r.Page, Slot: r.Slot})
 		p.db.Heap, _ = plainHeapClear(p.db.Heap, r.Page, r.Slot, lsn)

@@ -106,18 +106,24 @@ func watch(t *testing.T, name string, ops []impl.Op, p impl.Play) *witness {
 	t.Helper()
 	w := &witness{t: t, name: name, left: p.Replies, committed: plainStore{}}
 	for _, o := range ops {
-		w.follow(o)
-		for len(w.ended) > 0 {
-			over := w.ended[0]
-			w.ended = w.ended[1:]
-			w.wakes(over)
-		}
-		w.wantWaitsAreRight()
+		w.goesOn(o)
 	}
 	if len(w.left) > 0 {
 		t.Fatalf("%s: %d replies to nothing", name, len(w.left))
 	}
 	return w
+}
+
+// goesOn takes the reply to an op, and those to who is waked by it.
+func (w *witness) goesOn(o impl.Op) {
+	w.t.Helper()
+	w.follow(o)
+	for len(w.ended) > 0 {
+		over := w.ended[0]
+		w.ended = w.ended[1:]
+		w.wakes(over)
+	}
+	w.wantWaitsAreRight()
 }
 
 // take is the next reply, which has to be one to this op.
