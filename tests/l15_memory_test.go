@@ -26,6 +26,9 @@ func stretches(v reflect.Value, path string) []stretchOf {
 			from := v.Pointer()
 			l = append(l, stretchOf{from, from + uintptr(v.Cap())*v.Type().Elem().Size(), path})
 		}
+		if !holdsLists(v.Type().Elem()) {
+			return l
+		}
 		for i := range v.Len() {
 			l = append(l, stretches(v.Index(i), fmt.Sprintf("%s[%d]", path, i))...)
 		}
